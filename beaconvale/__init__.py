@@ -1,0 +1,1 @@
+"""Beaconvale: who sees whom along a valley, and how soon tidings come."""
