@@ -25,6 +25,14 @@ def less(one, other):
     return one[0] * other[1] < other[0] * one[1]
 
 
+def lesser(one, other):
+    return one if less(one, other) else other
+
+
+def greater(one, other):
+    return other if less(one, other) else one
+
+
 def plus(one, other):
     return fraction(one[0] * other[1] + other[0] * one[1], one[1] * other[1])
 
