@@ -1,27 +1,13 @@
 """[5.1] and beaconvale.fogs."""
 
 import unittest
-from fractions import Fraction
 from itertools import combinations_with_replacement, product
 
 from beaconvale.fogs import box_at, foggy, foggy_all, is_fog, meets
 from beaconvale.ground import Ground
+from vales import FAR, touches
 
-FAR = 10 ** 49 + 9      # 50 figures
 STILL = (2, 4, 1, 3, 5, 9, 0, 0)
-
-
-def touches(box, one, other):
-    """Whether some point of the line between the two, told by its share of the way, is in the box."""
-    least, most = Fraction(0), Fraction(1)
-    for start, end, low, high in ((one[0], other[0], box[0], box[1]), (one[1], other[1], box[2], box[3])):
-        if start == end:
-            if not low <= start <= high:
-                return False
-        else:
-            shares = sorted((Fraction(low - start, end - start), Fraction(high - start, end - start)))
-            least, most = max(least, shares[0]), min(most, shares[1])
-    return least <= most
 
 
 def hour_by_hour(fog, one, other):
