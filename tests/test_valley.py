@@ -418,6 +418,8 @@ class CompanyTest(unittest.TestCase):
         for hour in (-1, 21, FAR, -FAR):
             self.assertIs(refused(company, vale(), hour, "ash"), BadHour)
             self.assertIs(refused(company, vale(), hour, "elm"), NoBeacon)
+            self.assertIs(refused(company, vale([("ash", 0, 5)]), hour, "ash"), BadHour)
+            self.assertIs(refused(company, vale([("ash", 0, 5)]), hour, "elm"), NoBeacon)
         self.assertIs(refused(company, vale(), 5, "elm"), NoBeacon)
         for hour in (0, 20):
             self.assertEqual(company(vale(), hour, "cedar"), ["ash", "birch", "cedar"])
